@@ -115,6 +115,19 @@ func (a arguments) config() api.Config {
 	}
 }
 
+// bytes are now and then a config's, or the beginning of some, sealed: others are refused at once.
+func (a arguments) bytes() []byte {
+	if a.r.IntN(3) == 0 {
+		b, _ := table.Encode(a.config())
+		return b
+	}
+	b := []byte{231, 1}
+	for range a.r.IntN(40) {
+		b = append(b, byte(a.number()))
+	}
+	return wire.Seal(b)
+}
+
 // value is one of any type that a listed call takes.
 func (a arguments) value(t reflect.Type) reflect.Value {
 	if t == reflect.TypeFor[api.Config]() && a.r.IntN(2) == 0 {
@@ -122,6 +135,9 @@ func (a arguments) value(t reflect.Type) reflect.Value {
 	}
 	if t == reflect.TypeFor[api.Channel]() && a.r.IntN(2) == 0 {
 		return reflect.ValueOf(a.channel())
+	}
+	if t == reflect.TypeFor[[]byte]() && a.r.IntN(2) == 0 {
+		return reflect.ValueOf(a.bytes())
 	}
 	v := reflect.New(t).Elem()
 	switch t.Kind() {
